@@ -1,0 +1,1 @@
+"""Cornertold: cloths of letters that are known from their corners."""

@@ -1,0 +1,125 @@
+"""What the tests share: tables and plans to try, and wrong things of every kind."""
+
+from cornertold.tables import flipped, lifted, pushed, tables_of_two, through, turned
+
+
+class EqualToAll:
+    """A thing of a strange kind, which must never be taken for a word or a number."""
+
+    def __eq__(self, other):
+        return True
+
+    def __hash__(self):
+        return 0
+
+
+class Unaskable:
+    """A thing that can't be compared, counted or taken apart."""
+
+    def refuse(self, *rest):
+        raise RuntimeError("asked what nobody may ask")
+
+    __eq__ = __lt__ = __gt__ = __le__ = __ge__ = __len__ = __iter__ = __bool__ = __getitem__ = refuse
+    __hash__ = None
+
+
+def nested(kind):
+    thing = kind()
+    for depth in range(29):
+        thing = kind([thing])
+    return thing
+
+
+ODD_THINGS = (
+    None, True, False, 0, 1, -1, 41, 10 ** 30, -10 ** 30, 10 ** 5000,
+    "", "row", "column", "0", "text\n", b"", b"row", [], [0], (), (0,), (None,), ((),), ((), ()),
+    (True, True, True), ("row", 0), ("row", 0, 0, 0), ("row", True, 0), ["row", 0, 0],
+    {}, {0: 1}, set(), {1}, frozenset(), range(4), nested(tuple), nested(list),
+    object(), int, len, Ellipsis, EqualToAll(), Unaskable(),
+    (EqualToAll(), EqualToAll(), EqualToAll()), (EqualToAll(), EqualToAll(), EqualToAll(), EqualToAll()),
+    (Unaskable(), Unaskable()), (Unaskable(), Unaskable(), Unaskable()),
+    (Unaskable(), Unaskable(), Unaskable(), Unaskable()),
+)
+
+
+def in_place_of_a_number(number):
+    """Things that stand for no number, some of them equal to this one."""
+    wrong = [None, str(number), (number,), [number], -1, number + 100, 10 ** 30, EqualToAll(), Unaskable()]
+    if number in (0, 1):
+        wrong.append(bool(number))
+    return wrong
+
+
+def in_place_of_a_text(text):
+    return [None, 0, True, (text,), [text], text.encode(), list(text), text.upper(), text + " ", "", EqualToAll(),
+            Unaskable()]
+
+
+def in_place_of_a_tuple(thing, lengths):
+    wrong = [None, 0, True, list(thing), str(thing), {}, (thing,), EqualToAll(), Unaskable()]
+    if lengths:
+        wrong.extend(thing[:k] for k in range(len(thing)))
+        wrong.extend(thing + (last,) for last in (0, (), thing[-1] if thing else None))
+    return wrong
+
+
+def spoiled(thing, lengths=True):
+    """The thing again and again, each time with one thing in it, however deep, put wrong.
+
+    Where lengths is false no tuple gets longer or shorter.
+    """
+    if isinstance(thing, tuple):
+        yield from in_place_of_a_tuple(thing, lengths)
+        for at, part in enumerate(thing):
+            for wrong in spoiled(part, lengths):
+                yield thing[:at] + (wrong,) + thing[at + 1:]
+    elif isinstance(thing, str):
+        yield from in_place_of_a_text(thing)
+    else:
+        yield from in_place_of_a_number(thing)
+
+
+def orders(q):
+    """q tuples of all q letters, each in an order of its own."""
+    shifted = [tuple((k + by) % q for k in range(q)) for by in range(q)]
+    return tuple([tuple(reversed(order)) if at % 3 == 1 else order for at, order in enumerate(shifted)])
+
+
+def mixed(q):
+    """A table of q letters, q odd, in which what goes on at right and high hangs on both left and low."""
+    return tuple(sorted((l, w, (l + w) % q, (l + 2 * w) % q) for l in range(q) for w in range(q)))
+
+
+def some_tables(q):
+    """At most twelve tables of q letters, of all sorts, for q of two all there are."""
+    if q == 2:
+        return tables_of_two()
+    turns = orders(q)
+    tables = [through(q), pushed(q, turns), lifted(q, turns)]
+    tables.extend([turned(pushed(q, turns)), flipped(pushed(q, turns)), turned(lifted(q, turns))])
+    if q in (3, 5, 7):
+        tables.extend([mixed(q), turned(mixed(q)), flipped(mixed(q))])
+    return tuple(tables)
+
+
+def rests(seed):
+    """Numbers without end, always the same ones for a seed."""
+    state = seed
+    while True:
+        state = (state * 1103515245 + 12345) % 2 ** 31
+        yield state // 2 ** 8
+
+
+def some_numbers(seed, many, below):
+    source = rests(seed)
+    return tuple([next(source) % below for k in range(many)])
+
+
+def some_plan(q, a, b, seed=1):
+    """A plan of that size, with tables of all sorts mixed up."""
+    tables = some_tables(q)
+    numbers = some_numbers(seed, a * b, len(tables))
+    return (q, tables, a, tuple([numbers[j * a:(j + 1) * a] for j in range(b)]))
+
+
+SIZES = ((0, 0), (0, 1), (1, 0), (0, 3), (3, 0), (1, 1), (2, 1), (1, 2), (2, 2), (3, 2), (2, 3), (4, 3))

@@ -1,0 +1,84 @@
+"""Promise 2: names, arguments, kinds of values, nothing changed, the same told again."""
+
+import copy
+import importlib
+import inspect
+import unittest
+
+from cornertold import plans, tables, wires
+from tests.samples import nested, orders, some_plan, some_tables
+
+INTERFACE = {
+    "tables": {
+        "is_table": ["q", "thing"], "quad_by": ["table", "leg", "one", "other"], "turned": ["table"],
+        "flipped": ["table"], "through": ["q"], "pushed": ["q", "turns"], "lifted": ["q", "turns"],
+        "tables_of_two": [],
+    },
+    "plans": {"is_plan": ["thing"], "size": ["plan"], "table_at": ["plan", "i", "j"]},
+    "wires": {"is_wire": ["a", "b", "thing"], "wires": ["a", "b"], "legs": ["i", "j"]},
+}
+
+PLAN = some_plan(3, 2, 3)
+TABLE = some_tables(3)[4]
+CALLS = [
+    (tables.is_table, {"q": 3, "thing": TABLE}), (tables.quad_by, {"table": TABLE, "leg": 3, "one": 1, "other": 2}),
+    (tables.turned, {"table": TABLE}), (tables.flipped, {"table": TABLE}), (tables.through, {"q": 5}),
+    (tables.pushed, {"q": 4, "turns": orders(4)}), (tables.lifted, {"q": 4, "turns": orders(4)}),
+    (tables.tables_of_two, {}), (plans.is_plan, {"thing": PLAN}), (plans.size, {"plan": PLAN}),
+    (plans.table_at, {"plan": PLAN, "i": 1, "j": 2}), (wires.is_wire, {"a": 2, "b": 3, "thing": ("row", 1, 1)}),
+    (wires.wires, {"a": 2, "b": 3}), (wires.legs, {"i": 1, "j": 2}),
+]
+
+
+def is_plain(value):
+    """Whether it is made of tuples, whole numbers, texts, truths and None alone."""
+    if type(value) is tuple:
+        return all(is_plain(part) for part in value)
+    return type(value) in (int, str, bool) or value is None
+
+
+class Interface(unittest.TestCase):
+    def test_functions_stand_in_their_files_with_their_arguments(self):
+        for file, functions in INTERFACE.items():
+            module = importlib.import_module("cornertold." + file)
+            for name, arguments in functions.items():
+                function = getattr(module, name)
+                self.assertEqual(function.__module__, module.__name__)
+                parameters = inspect.signature(function).parameters.values()
+                self.assertEqual([parameter.name for parameter in parameters], arguments)
+                for parameter in parameters:
+                    self.assertEqual(parameter.kind, inspect.Parameter.POSITIONAL_OR_KEYWORD)
+
+    def test_every_function_is_called_here(self):
+        called = {(function.__module__, function.__name__) for function, arguments in CALLS}
+        listed = {("cornertold." + file, name) for file, names in INTERFACE.items() for name in names}
+        self.assertEqual(called, listed)
+
+    def test_by_places_or_by_names_again_and_again_the_same(self):
+        for function, arguments in CALLS:
+            before = copy.deepcopy(arguments)
+            answer = function(*arguments.values())
+            self.assertEqual(function(**dict(reversed(arguments.items()))), answer)
+            self.assertEqual(function(*arguments.values()), answer)
+            self.assertEqual(arguments, before)
+            self.assertTrue(is_plain(answer), function.__name__)
+
+    def test_questions_are_answered_with_truths(self):
+        for function, arguments in CALLS:
+            if function.__name__.startswith(("is_", "shows_")):
+                self.assertIs(function(**arguments), True)
+                for thing in ((), None, [], nested(tuple), 0, ""):
+                    self.assertIsInstance(function(**{**arguments, "thing": thing}), bool)
+
+    def test_lists_handed_in_as_anything_stay_as_they_were(self):
+        for function, arguments in CALLS:
+            if function.__name__.startswith(("is_", "shows_")):
+                listed = [list(part) if isinstance(part, tuple) else part for part in arguments.get("thing")]
+                before = copy.deepcopy(listed)
+                self.assertIs(function(**{**arguments, "thing": listed}), False)
+                self.assertIs(function(**{**arguments, "thing": tuple(listed)}), before == list(arguments["thing"]))
+                self.assertEqual(listed, before)
+
+
+if __name__ == "__main__":
+    unittest.main()
