@@ -25,3 +25,11 @@ def wires(a, b):
 def legs(i, j):
     """The wires at crossing (i, j): left, low, right, high."""
     return (("row", j, i), ("column", i, j), ("row", j, i + 1), ("column", i, j + 1))
+
+
+def crossings_at(a, b, wire):
+    """The crossings of that size, none to two, of which this wire is a leg."""
+    word, number, place = wire
+    if word == "row":
+        return [(i, number) for i in (place - 1, place) if 0 <= i < a]
+    return [(number, j) for j in (place - 1, place) if 0 <= j < b]

@@ -1,6 +1,11 @@
 """What the tests share: tables and plans to try, and wrong things of every kind."""
 
+import itertools
+
+from cornertold.plans import size
 from cornertold.tables import flipped, lifted, pushed, tables_of_two, through, turned
+from cornertold.weaving import cloth_at, count_cloths, woven
+from cornertold.wires import wires
 
 
 class EqualToAll:
@@ -120,6 +125,47 @@ def some_plan(q, a, b, seed=1):
     tables = some_tables(q)
     numbers = some_numbers(seed, a * b, len(tables))
     return (q, tables, a, tuple([numbers[j * a:(j + 1) * a] for j in range(b)]))
+
+
+def some_sheet(q, a, b, seed=5):
+    numbers = some_numbers(seed, 2 * (a + 1) * (b + 1), q)
+    rows = tuple(numbers[j * (a + 1):(j + 1) * (a + 1)] for j in range(b))
+    columns = tuple(numbers[-(i + 1) * (b + 1):][:b + 1] for i in range(a))
+    return (rows, columns)
+
+
+def some_cloth(plan, seed=3):
+    a, b = size(plan)
+    letters = some_numbers(seed, a + b, plan[0])
+    return woven(plan, 0, (letters[:b], letters[b:]))
+
+
+def some_known(a, b, seed):
+    """Known wires of that size, few or many."""
+    every = wires(a, b)
+    most = 2 + seed % 5
+    chosen = some_numbers(seed, len(every), most)
+    return tuple([wire for wire, number in zip(every, chosen) if number == 0])
+
+
+def changed(sheet, wire, sign):
+    """The sheet with that letter on that wire."""
+    word, number, place = wire
+    threads = [[list(thread) for thread in threads] for threads in sheet]
+    threads[word == "column"][number][place] = sign
+    return tuple(tuple(tuple(thread) for thread in part) for part in threads)
+
+
+def all_cloths(plan):
+    """All cloths of a plan by their numbers; there must not be many."""
+    return [cloth_at(plan, number) for number in range(count_cloths(plan))]
+
+
+def all_sheets(q, a, b):
+    """All sheets of that size; there must not be many."""
+    rows = list(itertools.product(itertools.product(range(q), repeat=a + 1), repeat=b))
+    columns = list(itertools.product(itertools.product(range(q), repeat=b + 1), repeat=a))
+    return itertools.product(rows, columns)
 
 
 SIZES = ((0, 0), (0, 1), (1, 0), (0, 3), (3, 0), (1, 1), (2, 1), (1, 2), (2, 2), (3, 2), (2, 3), (4, 3))

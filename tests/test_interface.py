@@ -5,8 +5,8 @@ import importlib
 import inspect
 import unittest
 
-from cornertold import plans, tables, wires
-from tests.samples import nested, orders, some_plan, some_tables
+from cornertold import plans, sheets, tables, told, toldlooks, weaving, wires
+from tests.samples import nested, orders, some_cloth, some_plan, some_tables
 
 INTERFACE = {
     "tables": {
@@ -16,10 +16,21 @@ INTERFACE = {
     },
     "plans": {"is_plan": ["thing"], "size": ["plan"], "table_at": ["plan", "i", "j"]},
     "wires": {"is_wire": ["a", "b", "thing"], "wires": ["a", "b"], "legs": ["i", "j"]},
+    "sheets": {"is_sheet": ["q", "a", "b", "thing"], "is_cloth": ["plan", "thing"], "letter": ["sheet", "wire"]},
+    "weaving": {
+        "woven": ["plan", "corner", "ends"], "count_cloths": ["plan"], "cloth_at": ["plan", "number"],
+        "number_of": ["plan", "cloth"],
+    },
+    "told": {"is_known": ["a", "b", "thing"], "told": ["a", "b", "known"], "steps": ["a", "b", "known"]},
+    "toldlooks": {
+        "shows_told": ["a", "b", "known", "wire", "thing"], "shows_parted": ["a", "b", "known", "wire", "thing"],
+    },
 }
 
 PLAN = some_plan(3, 2, 3)
 TABLE = some_tables(3)[4]
+CLOTH = some_cloth(PLAN)
+KNOWN = (("column", 0, 0), ("row", 0, 0), ("row", 2, 1))
 CALLS = [
     (tables.is_table, {"q": 3, "thing": TABLE}), (tables.quad_by, {"table": TABLE, "leg": 3, "one": 1, "other": 2}),
     (tables.turned, {"table": TABLE}), (tables.flipped, {"table": TABLE}), (tables.through, {"q": 5}),
@@ -27,6 +38,16 @@ CALLS = [
     (tables.tables_of_two, {}), (plans.is_plan, {"thing": PLAN}), (plans.size, {"plan": PLAN}),
     (plans.table_at, {"plan": PLAN, "i": 1, "j": 2}), (wires.is_wire, {"a": 2, "b": 3, "thing": ("row", 1, 1)}),
     (wires.wires, {"a": 2, "b": 3}), (wires.legs, {"i": 1, "j": 2}),
+    (sheets.is_sheet, {"q": 3, "a": 2, "b": 3, "thing": CLOTH}), (sheets.is_cloth, {"plan": PLAN, "thing": CLOTH}),
+    (sheets.letter, {"sheet": CLOTH, "wire": ("column", 1, 3)}),
+    (weaving.woven, {"plan": PLAN, "corner": 2, "ends": ((0, 1, 2), (2, 0))}), (weaving.count_cloths, {"plan": PLAN}),
+    (weaving.cloth_at, {"plan": PLAN, "number": 77}), (weaving.number_of, {"plan": PLAN, "cloth": CLOTH}),
+    (told.is_known, {"a": 2, "b": 3, "thing": KNOWN}), (told.told, {"a": 2, "b": 3, "known": KNOWN}),
+    (told.steps, {"a": 2, "b": 3, "known": KNOWN}),
+    (toldlooks.shows_told, {"a": 2, "b": 3, "known": KNOWN, "wire": ("row", 0, 1), "thing": ((0, 0, 0), (0, 0, 2))}),
+    (toldlooks.shows_parted, {
+        "a": 2, "b": 3, "known": (), "wire": ("row", 0, 0),
+        "thing": (PLAN, weaving.cloth_at(PLAN, 0), weaving.cloth_at(PLAN, 242))}),
 ]
 
 

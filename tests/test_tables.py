@@ -22,6 +22,15 @@ class IsTable(unittest.TestCase):
         for q in (-1, 0, 1, 8, 9):
             self.assertIs(is_table(q, through(q)), False)
 
+    def test_letters_have_to_be_those_below_q(self):
+        for q in range(2, 8):
+            for beyond in (q, -1, 10 ** 30):
+                names = list(range(q - 1)) + [beyond]
+                quads = tuple(sorted((l, w, l, w) for l in names for w in names))
+                self.assertIs(is_table(q, quads), False)
+            raised = tuple((l + 1, w + 1, l + 1, w + 1) for l, w, r, h in through(q))
+            self.assertIs(is_table(q, raised), False)
+
     def test_anything(self):
         for thing in ODD_THINGS:
             for q in (2, 3, 7):

@@ -1,0 +1,41 @@
+"""Sheets and cloths: letters on all wires."""
+
+from cornertold.kinds import is_block, is_tuple_of
+from cornertold.plans import size, table_at
+
+
+def is_sheet(q, a, b, thing):
+    """Whether it is a sheet of q letters of that size, of anything as thing."""
+    if not is_tuple_of(thing, 2):
+        return False
+    rows, columns = thing
+    return is_block(rows, b, a + 1, q - 1) and is_block(columns, a, b + 1, q - 1)
+
+
+def is_cloth(plan, thing):
+    """Whether it is a cloth of that plan, of anything as thing."""
+    a, b = size(plan)
+    if not is_sheet(plan[0], a, b, thing):
+        return False
+    return all([quad_at(thing, i, j) in table_at(plan, i, j) for i in range(a) for j in range(b)])
+
+
+def letter(sheet, wire):
+    """The letter of the sheet on that wire."""
+    rows, columns = sheet
+    word, number, place = wire
+    threads = rows if word == "row" else columns
+    return threads[number][place]
+
+
+def quad_at(sheet, i, j):
+    """The letters of the sheet at the legs of crossing (i, j)."""
+    rows, columns = sheet
+    return (rows[j][i], columns[i][j], rows[j][i + 1], columns[i][j + 1])
+
+
+def sheet_of(a, b, held):
+    """The sheet of that size, from a dict of the letters by their wires."""
+    rows = tuple([tuple([held[("row", j, x)] for x in range(a + 1)]) for j in range(b)])
+    columns = tuple([tuple([held[("column", i, y)] for y in range(b + 1)]) for i in range(a)])
+    return (rows, columns)
