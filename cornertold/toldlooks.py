@@ -4,14 +4,14 @@ from cornertold.kinds import is_between, is_tuple_of
 from cornertold.plans import is_plan, size
 from cornertold.sheets import is_cloth, letter
 from cornertold.told import hold, is_telling
+from cornertold.wires import is_crossing
 
 
 def is_step(a, b, thing):
     """Whether it is a step of that size, of anything as thing."""
     if not is_tuple_of(thing, 3):
         return False
-    i, j, leg = thing
-    return is_between(i, 0, a - 1) and is_between(j, 0, b - 1) and is_between(leg, 0, 3)
+    return is_crossing(a, b, thing[:2]) and is_between(thing[2], 0, 3)
 
 
 def shows_told(a, b, known, wire, thing):

@@ -27,6 +27,11 @@ def legs(i, j):
     return (("row", j, i), ("column", i, j), ("row", j, i + 1), ("column", i, j + 1))
 
 
+def is_crossing(a, b, thing):
+    """Whether it is a crossing of that size, of anything as thing."""
+    return is_tuple_of(thing, 2) and is_between(thing[0], 0, a - 1) and is_between(thing[1], 0, b - 1)
+
+
 def crossings_at(a, b, wire):
     """The crossings of that size, none to two, of which this wire is a leg."""
     word, number, place = wire

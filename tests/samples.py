@@ -169,3 +169,40 @@ def all_sheets(q, a, b):
 
 
 SIZES = ((0, 0), (0, 1), (1, 0), (0, 3), (3, 0), (1, 1), (2, 1), (1, 2), (2, 2), (3, 2), (2, 3), (4, 3))
+SMALL_SIZES = tuple(itertools.product(range(4), repeat=2))
+FORTY_SIZES = ((40, 40), (40, 0), (0, 40), (40, 1), (1, 40), (40, 7))
+
+# Four threads that wait for one another all round, forth and back.
+MILLED_FORTH = ((0, 2), (2, 0))
+MILLED_BACK = ((2, 0), (0, 2))
+
+
+def all_picks(a, b):
+    """All picks of that size; there must not be many."""
+    xs = list(itertools.product(range(a + 1), repeat=b))
+    return itertools.product(xs, itertools.product(range(b + 1), repeat=a))
+
+
+def some_pick(a, b, seed):
+    """A pick of that size, with or without a mill: many of its threads are picked at like places."""
+    xs = some_numbers(seed, b, a + 1)
+    ys = some_numbers(seed + 77, a, b + 1)
+    stray = some_numbers(seed + 154, a + b, 2 + seed % 3)
+    return (tuple([x if often == 0 else seed % (a + 1) for x, often in zip(xs, stray)]),
+            tuple([y if often == 0 else seed % (b + 1) for y, often in zip(ys, stray[b:])]))
+
+
+def mills_by_the_words(pick):
+    """All mills of a pick, rising, by looking at all pairs of columns and rows."""
+    xs, ys = pick
+    columns = list(itertools.combinations(range(len(ys)), 2))
+    rows = list(itertools.combinations(range(len(xs)), 2))
+    found = []
+    for (i, k), (j, l) in itertools.product(columns, rows):
+        row_legs = {row: {0 if xs[row] <= column else 2 for column in (i, k)} for row in (j, l)}
+        column_legs = {column: {1 if ys[column] <= row else 3 for row in (j, l)} for column in (i, k)}
+        if (row_legs[j], column_legs[k], row_legs[l], column_legs[i]) == ({0}, {1}, {2}, {3}):
+            found.append((i, k, j, l, 1))
+        if (row_legs[j], column_legs[i], row_legs[l], column_legs[k]) == ({2}, {1}, {0}, {3}):
+            found.append((i, k, j, l, -1))
+    return sorted(found)

@@ -5,8 +5,9 @@ import importlib
 import inspect
 import unittest
 
-from cornertold import plans, sheets, tables, told, toldlooks, weaving, wires
-from tests.samples import nested, orders, some_cloth, some_plan, some_tables
+from cornertold import mills, orders, parted, picks, plans, sheets, tables, told, toldlooks, weaving, wires
+from tests import samples
+from tests.samples import MILLED_FORTH, nested, some_cloth, some_plan, some_tables
 
 INTERFACE = {
     "tables": {
@@ -25,16 +26,21 @@ INTERFACE = {
     "toldlooks": {
         "shows_told": ["a", "b", "known", "wire", "thing"], "shows_parted": ["a", "b", "known", "wire", "thing"],
     },
+    "parted": {"parted": ["a", "b", "known"]},
+    "picks": {"is_pick": ["a", "b", "thing"], "picked": ["pick"], "comes": ["pick", "i", "j"]},
+    "mills": {"is_mill": ["pick", "thing"], "mill": ["pick"]},
+    "orders": {"order": ["pick"], "shows_order": ["pick", "thing"]},
 }
 
 PLAN = some_plan(3, 2, 3)
 TABLE = some_tables(3)[4]
 CLOTH = some_cloth(PLAN)
 KNOWN = (("column", 0, 0), ("row", 0, 0), ("row", 2, 1))
+PICK = ((0, 2, 1), (3, 1))
 CALLS = [
     (tables.is_table, {"q": 3, "thing": TABLE}), (tables.quad_by, {"table": TABLE, "leg": 3, "one": 1, "other": 2}),
     (tables.turned, {"table": TABLE}), (tables.flipped, {"table": TABLE}), (tables.through, {"q": 5}),
-    (tables.pushed, {"q": 4, "turns": orders(4)}), (tables.lifted, {"q": 4, "turns": orders(4)}),
+    (tables.pushed, {"q": 4, "turns": samples.orders(4)}), (tables.lifted, {"q": 4, "turns": samples.orders(4)}),
     (tables.tables_of_two, {}), (plans.is_plan, {"thing": PLAN}), (plans.size, {"plan": PLAN}),
     (plans.table_at, {"plan": PLAN, "i": 1, "j": 2}), (wires.is_wire, {"a": 2, "b": 3, "thing": ("row", 1, 1)}),
     (wires.wires, {"a": 2, "b": 3}), (wires.legs, {"i": 1, "j": 2}),
@@ -48,6 +54,10 @@ CALLS = [
     (toldlooks.shows_parted, {
         "a": 2, "b": 3, "known": (), "wire": ("row", 0, 0),
         "thing": (PLAN, weaving.cloth_at(PLAN, 0), weaving.cloth_at(PLAN, 242))}),
+    (parted.parted, {"a": 2, "b": 3, "known": KNOWN}), (picks.is_pick, {"a": 2, "b": 3, "thing": PICK}),
+    (picks.picked, {"pick": PICK}), (picks.comes, {"pick": PICK, "i": 1, "j": 2}),
+    (mills.is_mill, {"pick": MILLED_FORTH, "thing": (0, 1, 0, 1, 1)}), (mills.mill, {"pick": MILLED_FORTH}),
+    (orders.order, {"pick": PICK}), (orders.shows_order, {"pick": PICK, "thing": orders.order(PICK)}),
 ]
 
 
