@@ -48,10 +48,15 @@ def cross(plan, held, i, j, leg):
 def count_cloths(plan):
     """How many cloths the plan has."""
     a, b = size(plan)
-    many = 1
-    for thread in range(a + b):
-        many *= plan[0]
-    return many
+    return power(plan[0], a + b)
+
+
+def power(base, many):
+    """The base taken so many times."""
+    found = 1
+    for taken in range(many):
+        found *= base
+    return found
 
 
 def cloth_at(plan, number):

@@ -5,7 +5,9 @@ import importlib
 import inspect
 import unittest
 
-from cornertold import mills, orders, parted, picks, plans, sheets, tables, told, toldlooks, weaving, wires
+from cornertold import (
+    counting, filling, mills, orders, parted, pickings, picks, plans, sheets, tables, threads, told, toldlooks, weaving,
+    wires)
 from tests import samples
 from tests.samples import MILLED_FORTH, nested, some_cloth, some_plan, some_tables
 
@@ -30,6 +32,15 @@ INTERFACE = {
     "picks": {"is_pick": ["a", "b", "thing"], "picked": ["pick"], "comes": ["pick", "i", "j"]},
     "mills": {"is_mill": ["pick", "thing"], "mill": ["pick"]},
     "orders": {"order": ["pick"], "shows_order": ["pick", "thing"]},
+    "pickings": {"count_picks": ["a", "b"], "pick_with": ["a", "b", "one", "other"]},
+    "filling": {"ends_at": ["sheet", "pick"], "filled": ["plan", "pick", "ends"]},
+    "counting": {
+        "count_on": ["plan", "pick", "some"], "cloths_with": ["plan", "some"], "settled": ["plan", "some"],
+    },
+    "threads": {
+        "ways": ["table", "word"], "along": ["plan", "word", "number", "begin", "end"],
+        "count_two": ["plan", "one", "letter", "other", "letter_there"], "far_along": ["p", "tables", "word", "times"],
+    },
 }
 
 PLAN = some_plan(3, 2, 3)
@@ -37,6 +48,7 @@ TABLE = some_tables(3)[4]
 CLOTH = some_cloth(PLAN)
 KNOWN = (("column", 0, 0), ("row", 0, 0), ("row", 2, 1))
 PICK = ((0, 2, 1), (3, 1))
+SOME = ((("column", 1, 1), 2), (("row", 0, 0), 1))
 CALLS = [
     (tables.is_table, {"q": 3, "thing": TABLE}), (tables.quad_by, {"table": TABLE, "leg": 3, "one": 1, "other": 2}),
     (tables.turned, {"table": TABLE}), (tables.flipped, {"table": TABLE}), (tables.through, {"q": 5}),
@@ -58,6 +70,16 @@ CALLS = [
     (picks.picked, {"pick": PICK}), (picks.comes, {"pick": PICK, "i": 1, "j": 2}),
     (mills.is_mill, {"pick": MILLED_FORTH, "thing": (0, 1, 0, 1, 1)}), (mills.mill, {"pick": MILLED_FORTH}),
     (orders.order, {"pick": PICK}), (orders.shows_order, {"pick": PICK, "thing": orders.order(PICK)}),
+    (pickings.count_picks, {"a": 2, "b": 3}),
+    (pickings.pick_with, {"a": 2, "b": 3, "one": ("row", 2, 1), "other": ("column", 1, 3)}),
+    (filling.ends_at, {"sheet": CLOTH, "pick": PICK}),
+    (filling.filled, {"plan": PLAN, "pick": PICK, "ends": ((2, 0, 1), (0, 2))}),
+    (counting.count_on, {"plan": PLAN, "pick": PICK, "some": SOME}),
+    (counting.cloths_with, {"plan": PLAN, "some": SOME}), (counting.settled, {"plan": PLAN, "some": SOME}),
+    (threads.ways, {"table": TABLE, "word": "column"}),
+    (threads.along, {"plan": PLAN, "word": "column", "number": 1, "begin": 0, "end": 3}),
+    (threads.count_two, {"plan": PLAN, "one": ("row", 1, 2), "letter": 1, "other": ("row", 1, 0), "letter_there": 2}),
+    (threads.far_along, {"p": 10 ** 9, "tables": some_tables(3)[2:5], "word": "row", "times": 10 ** 18}),
 ]
 
 
