@@ -12,13 +12,13 @@ class IsMill(unittest.TestCase):
         for a, b in SMALL_SIZES[:-1]:
             tried = list(itertools.product(range(-1, a + 1), range(-1, a + 1), range(-1, b + 1), range(-1, b + 1),
                                            (-2, -1, 0, 1, 2)))
-            for pick in list(all_picks(a, b))[::5 if a * b > 4 else 1]:
+            for pick in all_picks(a, b):
                 so = mills_by_the_words(pick)
                 self.assertEqual(sorted([thing for thing in tried if is_mill(pick, thing)]), so)
 
     def test_three_by_three_by_the_words(self):
         tried = list(itertools.product(range(3), range(3), range(3), range(3), (-1, 1)))
-        for pick in list(all_picks(3, 3))[::3]:
+        for pick in all_picks(3, 3):
             self.assertEqual([thing for thing in tried if is_mill(pick, thing)], mills_by_the_words(pick))
 
     def test_written_out(self):

@@ -78,11 +78,9 @@ class Picks(unittest.TestCase):
             self.assertEqual(caught.exception.mill, found)
 
     def test_all_picks_of_small_sizes(self):
-        for a, b in SMALL_SIZES[:-1]:
+        for a, b in SMALL_SIZES:
             for pick in all_picks(a, b):
                 self.look_at(a, b, pick)
-        for pick in list(all_picks(3, 3))[::3]:
-            self.look_at(3, 3, pick)
 
     def test_some_picks(self):
         for a, b in ((5, 5), (4, 7), (9, 3), (8, 8)):
