@@ -17,7 +17,14 @@ def is_cloth(plan, thing):
     a, b = size(plan)
     if not is_sheet(plan[0], a, b, thing):
         return False
-    return all([quad_at(thing, i, j) in table_at(plan, i, j) for i in range(a) for j in range(b)])
+    return all([has_quad(plan, thing, i, j) for i in range(a) for j in range(b)])
+
+
+def has_quad(plan, sheet, i, j):
+    """Whether the letters of the sheet at the legs of crossing (i, j) are a quad of its table."""
+    rows, columns = sheet
+    quad = (rows[j][i], columns[i][j], rows[j][i + 1], columns[i][j + 1])
+    return quad in table_at(plan, i, j)
 
 
 def letter(sheet, wire):
@@ -26,12 +33,6 @@ def letter(sheet, wire):
     word, number, place = wire
     threads = rows if word == "row" else columns
     return threads[number][place]
-
-
-def quad_at(sheet, i, j):
-    """The letters of the sheet at the legs of crossing (i, j)."""
-    rows, columns = sheet
-    return (rows[j][i], columns[i][j], rows[j][i + 1], columns[i][j + 1])
 
 
 def sheet_of(a, b, held):

@@ -39,10 +39,15 @@ def numbers_from(many, from_first):
 
 def cross(plan, held, i, j, leg):
     """Hold the letters at all legs of crossing (i, j), by those held at that leg and the next one."""
+    for place, sign in crossed(plan, held, i, j, leg):
+        held[place] = sign
+
+
+def crossed(plan, held, i, j, leg):
+    """The wires at crossing (i, j) with their letters, by those held at that leg and the next one."""
     places = legs(i, j)
     quad = quad_by(table_at(plan, i, j), leg, held[places[leg]], held[places[(leg + 1) % 4]])
-    for place, sign in zip(places, quad):
-        held[place] = sign
+    return list(zip(places, quad))
 
 
 def count_cloths(plan):

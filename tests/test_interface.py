@@ -6,8 +6,8 @@ import inspect
 import unittest
 
 from cornertold import (
-    counting, filling, mills, orders, parted, pickings, picks, plans, sheets, tables, threads, told, toldlooks, weaving,
-    wires)
+    breaks, closing, counting, filling, flipping, mills, orders, parted, pickings, picks, plans, sheets, tables, threads,
+    told, toldlooks, turning, weaving, wires)
 from tests import samples
 from tests.samples import MILLED_FORTH, nested, some_cloth, some_plan, some_tables
 
@@ -41,6 +41,15 @@ INTERFACE = {
         "ways": ["table", "word"], "along": ["plan", "word", "number", "begin", "end"],
         "count_two": ["plan", "one", "letter", "other", "letter_there"], "far_along": ["p", "tables", "word", "times"],
     },
+    "turning": {
+        "quarter": ["plan"], "quarter_wire": ["a", "b", "wire"], "quarter_sheet": ["sheet"],
+        "quarter_pick": ["a", "b", "pick"],
+    },
+    "flipping": {
+        "flip": ["plan"], "flip_wire": ["a", "b", "wire"], "flip_sheet": ["sheet"], "flip_pick": ["a", "b", "pick"],
+    },
+    "breaks": {"broken": ["plan", "sheet"], "put": ["sheet", "wire", "letter"], "mends": ["plan", "sheet"]},
+    "closing": {"is_holed": ["q", "a", "b", "thing"], "closed": ["plan", "holed"]},
 }
 
 PLAN = some_plan(3, 2, 3)
@@ -49,6 +58,7 @@ CLOTH = some_cloth(PLAN)
 KNOWN = (("column", 0, 0), ("row", 0, 0), ("row", 2, 1))
 PICK = ((0, 2, 1), (3, 1))
 SOME = ((("column", 1, 1), 2), (("row", 0, 0), 1))
+HOLED = (((0, None, None), (None, 2, None), (1, None, None)), ((None, 1, None, None), (0, None, None, None)))
 CALLS = [
     (tables.is_table, {"q": 3, "thing": TABLE}), (tables.quad_by, {"table": TABLE, "leg": 3, "one": 1, "other": 2}),
     (tables.turned, {"table": TABLE}), (tables.flipped, {"table": TABLE}), (tables.through, {"q": 5}),
@@ -80,6 +90,14 @@ CALLS = [
     (threads.along, {"plan": PLAN, "word": "column", "number": 1, "begin": 0, "end": 3}),
     (threads.count_two, {"plan": PLAN, "one": ("row", 1, 2), "letter": 1, "other": ("row", 1, 0), "letter_there": 2}),
     (threads.far_along, {"p": 10 ** 9, "tables": some_tables(3)[2:5], "word": "row", "times": 10 ** 18}),
+    (turning.quarter, {"plan": PLAN}), (turning.quarter_wire, {"a": 2, "b": 3, "wire": ("column", 1, 3)}),
+    (turning.quarter_sheet, {"sheet": CLOTH}), (turning.quarter_pick, {"a": 2, "b": 3, "pick": PICK}),
+    (flipping.flip, {"plan": PLAN}), (flipping.flip_wire, {"a": 2, "b": 3, "wire": ("row", 2, 0)}),
+    (flipping.flip_sheet, {"sheet": CLOTH}), (flipping.flip_pick, {"a": 2, "b": 3, "pick": PICK}),
+    (breaks.broken, {"plan": PLAN, "sheet": breaks.put(CLOTH, ("row", 1, 1), 1 - CLOTH[0][1][1] // 2)}),
+    (breaks.put, {"sheet": CLOTH, "wire": ("row", 1, 1), "letter": 2}),
+    (breaks.mends, {"plan": PLAN, "sheet": breaks.put(CLOTH, ("row", 1, 1), 1 - CLOTH[0][1][1] // 2)}),
+    (closing.is_holed, {"q": 3, "a": 2, "b": 3, "thing": HOLED}), (closing.closed, {"plan": PLAN, "holed": HOLED}),
 ]
 
 

@@ -3,14 +3,13 @@
 import itertools
 import unittest
 
-from cornertold.plans import size
-from cornertold.sheets import is_cloth, letter
-from cornertold.tables import flipped, lifted, pushed, through, turned
+from cornertold.sheets import letter
+from cornertold.tables import lifted, pushed, through
 from cornertold.told import steps, told
 from cornertold.toldlooks import shows_parted, shows_told
 from cornertold.weaving import cloth_at, count_cloths, number_of, woven
 from cornertold.wires import wires
-from tests.samples import SIZES, all_cloths, some_cloth, some_known, some_numbers, some_plan
+from tests.samples import SIZES, all_cloths, some_known, some_plan
 
 # Any other table of two letters is one of these with letters exchanged on some legs, which parts the same wires.
 STRAIGHT = (through(2), pushed(2, ((0, 1), (1, 0))), lifted(2, ((0, 1), (1, 0))))
@@ -111,76 +110,6 @@ class Corners(unittest.TestCase):
             told(2, 2, (("column", 0, y), ("column", 1, v), ("row", 0, x), ("row", 1, u))) == wires(2, 2)
             for x, u, y, v in itertools.product(range(3), repeat=4)]
         self.assertEqual(told_by_all_picks.count(False), 2)
-
-
-def quarter_wire(a, b, wire):
-    word, number, place = wire
-    return ("column", b - 1 - number, place) if word == "row" else ("row", number, b - place)
-
-
-def quarter_plan(plan):
-    q, tables, a, rows = plan
-    b = len(rows)
-    return (q, tuple(turned(table) for table in tables), b,
-            tuple(tuple(rows[b - 1 - k][i] for k in range(b)) for i in range(a)))
-
-
-def quarter_sheet(sheet):
-    rows, columns = sheet
-    return (tuple(column[::-1] for column in columns), rows[::-1])
-
-
-def flip_wire(a, b, wire):
-    word, number, place = wire
-    return ("row", number, a - place) if word == "row" else ("column", a - 1 - number, place)
-
-
-def flip_plan(plan):
-    q, tables, a, rows = plan
-    return (q, tuple(flipped(table) for table in tables), a, tuple(row[::-1] for row in rows))
-
-
-def flip_sheet(sheet):
-    rows, columns = sheet
-    return (tuple(row[::-1] for row in rows), columns[::-1])
-
-
-class Sides(unittest.TestCase):
-    """(d)"""
-
-    def test_told_turned_and_flipped(self):
-        for a, b in SIZES:
-            for seed in range(20):
-                known = some_known(a, b, seed)
-                reached = told(a, b, known)
-                led = tuple(sorted(quarter_wire(a, b, wire) for wire in known))
-                self.assertEqual(told(b, a, led), tuple(sorted(quarter_wire(a, b, wire) for wire in reached)))
-                led = tuple(sorted(flip_wire(a, b, wire) for wire in known))
-                self.assertEqual(told(a, b, led), tuple(sorted(flip_wire(a, b, wire) for wire in reached)))
-
-    def test_cloths_turned_and_flipped(self):
-        for q in range(2, 8):
-            for a, b in SIZES:
-                plan = some_plan(q, a, b, seed=b)
-                cloth = some_cloth(plan)
-                self.assertEqual(size(quarter_plan(plan)), (b, a))
-                self.assertIs(is_cloth(quarter_plan(plan), quarter_sheet(cloth)), True)
-                self.assertIs(is_cloth(flip_plan(plan), flip_sheet(cloth)), True)
-                for wire in wires(a, b):
-                    self.assertEqual(letter(quarter_sheet(cloth), quarter_wire(a, b, wire)), letter(cloth, wire))
-                    self.assertEqual(letter(flip_sheet(cloth), flip_wire(a, b, wire)), letter(cloth, wire))
-
-    def test_woven_from_the_next_corner_when_turned(self):
-        for q, a, b in ((2, 3, 2), (3, 2, 4), (7, 3, 3)):
-            plan = some_plan(q, a, b, seed=q)
-            letters = some_numbers(q, a + b, q)
-            ends = (letters[:b], letters[b:])
-            for corner in range(4):
-                led = (ends[1], ends[0][::-1])
-                cloth = woven(plan, corner, ends)
-                self.assertEqual(woven(quarter_plan(plan), (corner + 1) % 4, led), quarter_sheet(cloth))
-                led = (ends[0], ends[1][::-1])
-                self.assertEqual(woven(flip_plan(plan), (1, 0, 3, 2)[corner], led), flip_sheet(cloth))
 
 
 if __name__ == "__main__":

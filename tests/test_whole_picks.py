@@ -117,23 +117,5 @@ class Picks(unittest.TestCase):
             self.assertNotEqual(told(4, 3, picked(pick)), wires(4, 3))
 
 
-class Sides(unittest.TestCase):
-    """(d), of picks and mills."""
-
-    def test_mills_flipped_and_turned_by_a_quarter(self):
-        for a, b in SMALL_SIZES[:-1] + ((5, 4),):
-            picks = all_picks(a, b) if a < 4 else [some_pick(a, b, seed) for seed in range(50)]
-            for xs, ys in picks:
-                found = mill((xs, ys))
-                flipped = (tuple([a - x for x in xs]), ys[::-1])
-                turned = (tuple([b - y for y in ys]), xs[::-1])
-                self.assertEqual(mill(flipped) is None, found is None)
-                self.assertEqual(mill(turned) is None, found is None)
-                if found is not None:
-                    i, k, j, l, turn = found
-                    self.assertIs(is_mill(flipped, (a - 1 - k, a - 1 - i, j, l, -turn)), True)
-                    self.assertIs(is_mill(turned, (b - 1 - l, b - 1 - j, i, k, turn)), True)
-
-
 if __name__ == "__main__":
     unittest.main()
