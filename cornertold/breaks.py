@@ -16,14 +16,14 @@ def put(sheet, wire, letter):
     rows, columns = sheet
     word, number, place = wire
     if word == "row":
-        return (put_on_thread(rows, number, place, letter), columns)
-    return (rows, put_on_thread(columns, number, place, letter))
+        return (put_within(rows, number, place, letter), columns)
+    return (rows, put_within(columns, number, place, letter))
 
 
-def put_on_thread(threads, number, place, letter):
-    """The threads with that letter at that place of the one with that number."""
+def put_within(threads, number, place, sign):
+    """The threads, of letters or of numbers of tables, with that sign at that place of the one with that number."""
     thread = threads[number]
-    changed = thread[:place] + (letter,) + thread[place + 1:]
+    changed = thread[:place] + (sign,) + thread[place + 1:]
     return threads[:number] + (changed,) + threads[number + 1:]
 
 

@@ -11,11 +11,16 @@ def is_plan(thing):
     if not is_tuple_of(thing, 4):
         return False
     q, tables, a, rows = thing
-    if not (is_many_letters(q) and is_tables(q, tables) and is_between(a, 0, MOST_THREADS)):
+    if not (is_many_letters(q) and is_tables(q, tables) and is_many_threads(a)):
         return False
-    if not (isinstance(rows, tuple) and len(rows) <= MOST_THREADS):
+    if not (isinstance(rows, tuple) and is_many_threads(len(rows))):
         return False
     return is_block(rows, len(rows), a, len(tables) - 1)
+
+
+def is_many_threads(thing):
+    """Whether a plan may have so many columns, or so many rows, of anything."""
+    return is_between(thing, 0, MOST_THREADS)
 
 
 def size(plan):

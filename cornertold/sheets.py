@@ -29,10 +29,14 @@ def has_quad(plan, sheet, i, j):
 
 def letter(sheet, wire):
     """The letter of the sheet on that wire."""
-    rows, columns = sheet
     word, number, place = wire
-    threads = rows if word == "row" else columns
-    return threads[number][place]
+    return thread_of(sheet, word, number)[place]
+
+
+def thread_of(sheet, word, number):
+    """The letters of the sheet on that thread."""
+    rows, columns = sheet
+    return rows[number] if word == "row" else columns[number]
 
 
 def sheet_of(a, b, held):

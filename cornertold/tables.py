@@ -27,9 +27,14 @@ def has_each_pair(quads, leg):
 
 def is_tables(q, thing):
     """Whether it is a tuple of tables of q letters, as many as a plan may have, of anything as thing."""
-    if not (isinstance(thing, tuple) and 1 <= len(thing) <= MOST_TABLES):
+    if not (isinstance(thing, tuple) and is_many_tables(len(thing))):
         return False
     return all([is_table(q, table) for table in thing])
+
+
+def is_many_tables(many):
+    """Whether a plan may have so many tables."""
+    return 1 <= many <= MOST_TABLES
 
 
 def quad_by(table, leg, one, other):

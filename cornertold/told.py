@@ -13,8 +13,10 @@ def is_known(a, b, thing):
 
 def told(a, b, known):
     """All wires that are told by the known ones, rising."""
-    brought = [wire for i, j, leg in steps(a, b, known) for wire in legs(i, j)]
-    return tuple(sorted(set(list(known) + brought)))
+    held = {wire: True for wire in known}
+    for i, j, leg in steps(a, b, known):
+        hold(held, i, j)
+    return tuple(sorted(list(held)))
 
 
 def steps(a, b, known):

@@ -2,6 +2,7 @@
 
 import itertools
 
+from cornertold.house import House
 from cornertold.plans import size
 from cornertold.tables import flipped, lifted, pushed, tables_of_two, through, turned
 from cornertold.weaving import cloth_at, count_cloths, woven
@@ -107,6 +108,22 @@ def some_tables(q):
     return tuple(tables)
 
 
+def moving_tables(q, many=12):
+    """So many tables of q letters, by most of which 0 at left and low brings other letters."""
+    turns = orders(q)[1:] + orders(q)[:1]
+    shifted = [pushed(q, turns), lifted(q, turns), turned(lifted(q, turns)), flipped(pushed(q, turns))]
+    if q in (3, 5, 7):
+        shifted.extend([tuple(sorted((l, w, (l + w + 1) % q, (l + 2 * w + by) % q) for l in range(q) for w in range(q)))
+                        for by in (1, 2)])
+    return (tuple(shifted) + some_tables(q) + some_tables(q))[:many]
+
+
+def moving_plan(q, a, b, seed=1, many=12):
+    """A plan of that size of such tables."""
+    numbers = some_numbers(seed, a * b, many)
+    return (q, moving_tables(q, many), a, tuple([numbers[j * a:(j + 1) * a] for j in range(b)]))
+
+
 def rests(seed):
     """Numbers without end, always the same ones for a seed."""
     state = seed
@@ -206,3 +223,41 @@ def mills_by_the_words(pick):
         if (row_legs[j], column_legs[i], row_legs[l], column_legs[k]) == ({2}, {1}, {0}, {3}):
             found.append((i, k, j, l, -1))
     return sorted(found)
+
+
+def grown_to(plan, letters=None):
+    """A house that has grown to that plan, with these letters, nought without such, at left and low ends."""
+    q, tables, a, rows = plan
+    signs = letters or (0,) * (a + len(rows))
+    house = House(q, tables)
+    for i in range(a):
+        house.grow("right", (), 0, signs[i])
+    for j, numbers in enumerate(rows):
+        house.grow("high", numbers, 0, signs[a + j])
+    return house
+
+
+SIGNS = "0179 \n-/,:rtx~"
+
+
+def by_signs(text):
+    """The text with a sign out, in, twice or another one."""
+    for at in range(len(text) + 1):
+        yield text[:at] + text[at + 1:]
+        yield text[:at] + text[at:at + 1] * 2 + text[at + 1:]
+        for sign in SIGNS:
+            yield text[:at] + sign + text[at + 1:]
+            yield text[:at] + sign + text[at:]
+
+
+def by_parts(text, between, others=()):
+    """The text with one of its parts out, twice, another one, or in another's place."""
+    parts = text.split(between)
+    for at in range(len(parts)):
+        yield between.join(parts[:at] + parts[at + 1:])
+        yield between.join(parts[:at] + parts[at:at + 1] * 2 + parts[at + 1:])
+        yield between.join(parts[at + 1:] + parts[:at + 1])
+        yield between.join(parts[:at] + parts[at:at + 2][::-1] + parts[at + 2:])
+        for other in others:
+            yield between.join(parts[:at] + [other] + parts[at + 1:])
+            yield between.join(parts[:at] + [other] + parts[at:])

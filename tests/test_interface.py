@@ -6,8 +6,10 @@ import inspect
 import unittest
 
 from cornertold import (
-    breaks, closing, counting, filling, flipping, mills, orders, parted, pickings, picks, plans, sheets, tables, threads,
-    told, toldlooks, turning, weaving, wires)
+    breaks, closing, counting, filling, flipping, mills, orders, parted, pickings, picks, plans, reading, sheets, showing,
+    tables, threads, told, toldlooks, turning, weaving, wires)
+from cornertold.desk import Desk
+from cornertold.house import House
 from tests import samples
 from tests.samples import MILLED_FORTH, nested, some_cloth, some_plan, some_tables
 
@@ -50,6 +52,25 @@ INTERFACE = {
     },
     "breaks": {"broken": ["plan", "sheet"], "put": ["sheet", "wire", "letter"], "mends": ["plan", "sheet"]},
     "closing": {"is_holed": ["q", "a", "b", "thing"], "closed": ["plan", "holed"]},
+    "showing": {
+        "show_table": ["table"], "show_plan": ["plan"], "show_sheet": ["sheet"], "show_known": ["known"],
+        "show_pick": ["pick"],
+    },
+    "reading": {
+        "read_table": ["q", "text"], "read_plan": ["text"], "read_sheet": ["q", "a", "b", "text"],
+        "read_known": ["a", "b", "text"], "read_pick": ["a", "b", "text"],
+    },
+}
+
+CLASSES = {
+    ("house", "House"): {
+        "__init__": ["self", "q", "tables"], "grow": ["self", "side", "numbers", "end", "letter"],
+        "cut": ["self", "side"], "refill": ["self", "pick", "ends"], "swap": ["self", "i", "j", "number"],
+        "turn": ["self"], "flip": ["self"], "plan": ["self"], "cloth": ["self"], "size": ["self"],
+        "at": ["self", "wire"], "ends": ["self", "pick"], "back": ["self"], "copied": ["self"],
+        "tried": ["self", "look"], "__len__": ["self"], "__eq__": ["self", "other"],
+    },
+    ("desk", "Desk"): {"__init__": ["self", "text"], "say": ["self", "line"]},
 }
 
 PLAN = some_plan(3, 2, 3)
@@ -98,6 +119,23 @@ CALLS = [
     (breaks.put, {"sheet": CLOTH, "wire": ("row", 1, 1), "letter": 2}),
     (breaks.mends, {"plan": PLAN, "sheet": breaks.put(CLOTH, ("row", 1, 1), 1 - CLOTH[0][1][1] // 2)}),
     (closing.is_holed, {"q": 3, "a": 2, "b": 3, "thing": HOLED}), (closing.closed, {"plan": PLAN, "holed": HOLED}),
+    (showing.show_table, {"table": TABLE}), (showing.show_plan, {"plan": PLAN}), (showing.show_sheet, {"sheet": HOLED}),
+    (showing.show_known, {"known": KNOWN}), (showing.show_pick, {"pick": PICK}),
+    (reading.read_table, {"q": 3, "text": showing.show_table(TABLE)}),
+    (reading.read_plan, {"text": showing.show_plan(PLAN)}),
+    (reading.read_sheet, {"q": 3, "a": 2, "b": 3, "text": showing.show_sheet(HOLED)}),
+    (reading.read_known, {"a": 2, "b": 3, "text": showing.show_known(KNOWN)}),
+    (reading.read_pick, {"a": 2, "b": 3, "text": showing.show_pick(PICK)}),
+]
+DEEDS = [
+    ("grow", {"side": "left", "numbers": (1, 0, 4), "end": 1, "letter": 2}), ("cut", {"side": "low"}),
+    ("refill", {"pick": ((0, 1), (0, 0, 0)), "ends": ((2, 1), (0, 1, 2))}), ("swap", {"i": 2, "j": 1, "number": 8}),
+    ("turn", {}), ("flip", {}), ("back", {}), ("plan", {}), ("cloth", {}), ("size", {}), ("at", {"wire": ("row", 2, 1)}),
+    ("ends", {"pick": ((0, 1, 2), (3, 0))}),
+]
+LINES = [
+    "grow left 1 2 : 1 0 4", "cut low", "fill 0 1 / 0 0 0 : 2 1 / 0 1 2", "swap 2 1 8", "turn", "flip", "back", "plan",
+    "cloth", "size", "at row 2 1", "ends 0 1 2 / 3 0",
 ]
 
 
@@ -133,6 +171,40 @@ class Interface(unittest.TestCase):
             self.assertEqual(function(*arguments.values()), answer)
             self.assertEqual(arguments, before)
             self.assertTrue(is_plain(answer), function.__name__)
+
+    def test_classes_have_all_their_methods_themselves(self):
+        for (file, name), methods in CLASSES.items():
+            module = importlib.import_module("cornertold." + file)
+            made = getattr(module, name)
+            self.assertEqual((made.__module__, made.__bases__), (module.__name__, (object,)))
+            for method, arguments in methods.items():
+                parameters = inspect.signature(vars(made)[method]).parameters.values()
+                self.assertEqual([parameter.name for parameter in parameters], arguments)
+                for parameter in parameters:
+                    self.assertEqual(parameter.kind, inspect.Parameter.POSITIONAL_OR_KEYWORD)
+
+    def test_deeds_by_places_or_by_names_and_at_a_desk(self):
+        one, other = samples.grown_to(PLAN), samples.grown_to(PLAN)
+        desk = Desk(text=showing.show_plan(PLAN))
+        for (name, arguments), line in zip(DEEDS, LINES):
+            before = copy.deepcopy(arguments)
+            answer = getattr(one, name)(*arguments.values())
+            self.assertEqual(getattr(other, name)(**dict(reversed(arguments.items()))), answer)
+            self.assertEqual(arguments, before)
+            self.assertTrue(is_plain(answer), name)
+            self.assertIs(type(desk.say(line=line)), str)
+            self.assertEqual(one, other)
+        self.assertIs(type(one.copied()), House)
+        self.assertIs(type(len(one)), int)
+        self.assertIs(type(one == other), bool)
+
+    def test_what_is_asked_changes_nothing(self):
+        house = samples.grown_to(PLAN)
+        for name, arguments in DEEDS:
+            if name in ("plan", "cloth", "size"):
+                before = (house.plan(), house.cloth(), len(house))
+                self.assertEqual(getattr(house, name)(), getattr(house, name)())
+                self.assertEqual((house.plan(), house.cloth(), len(house)), before)
 
     def test_questions_are_answered_with_truths(self):
         for function, arguments in CALLS:

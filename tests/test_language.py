@@ -22,6 +22,7 @@ BARRED_NODES = (ast.Global, ast.AsyncFunctionDef, ast.AsyncFor, ast.AsyncWith, a
 METHODS = (
     "append clear copy count endswith extend find get index insert isdigit items join keys pop remove replace reverse "
     "setdefault split startswith strip update values").split()
+CHANGING_METHODS = "append clear extend insert pop remove reverse setdefault update".split()
 
 
 def bound_names(tree):
@@ -81,7 +82,54 @@ class Language(unittest.TestCase):
                 self.assertNotIn(name, BARRED_NAMES, path.name)
                 self.assertFalse(hasattr(builtins, name), f"{path.name}: {name}")
 
+    def own_methods(self):
+        return {part.name for node, where in self.each_node() if isinstance(node, ast.ClassDef)
+                for part in node.body if isinstance(part, ast.FunctionDef)}
+
+    def test_no_name_is_a_method_and_an_attribute(self):
+        attributes = {node.attr for node, where in self.each_node()
+                      if isinstance(node, ast.Attribute) and isinstance(node.ctx, ast.Store)}
+        self.assertEqual(attributes & (self.own_methods() | set(METHODS) - {"index", "count", "find", "get"}), set())
+        self.assertEqual(self.own_methods() & set(METHODS), set())
+        nodes = list(self.each_node())
+        called = [node.func for node, where in nodes if isinstance(node, ast.Call)]
+        for node, where in nodes:
+            if isinstance(node, ast.Attribute) and node not in called and isinstance(node.ctx, ast.Load):
+                self.assertIn(node.attr, attributes, where)
+
+    def test_lists_alone_beside_a_class_that_compares(self):
+        for node, where in self.each_node():
+            name = node.func.id if isinstance(node, ast.Call) and isinstance(node.func, ast.Name) else None
+            if name in ("any", "all", "sum", "sorted") or name in ("min", "max") and len(node.args) == 1:
+                first = node.args[0]
+                is_list = isinstance(first, ast.Call) and getattr(first.func, "id", None) == "list"
+                self.assertTrue(is_list or isinstance(first, (ast.ListComp, ast.List)), where)
+            self.assertFalse(isinstance(node, ast.Attribute) and node.attr == "sort", where)
+
+    def test_finally_and_equality_are_plain(self):
+        for node, where in self.each_node():
+            if isinstance(node, ast.Try):
+                self.assertEqual(node.handlers, [], where)
+                for part in node.finalbody:
+                    self.assertIsInstance(part, ast.Assign, where)
+                    self.assertEqual([inner for inner in ast.walk(part) if isinstance(inner, (ast.Call, ast.List))], [])
+            if isinstance(node, ast.FunctionDef) and node.name in ("__eq__", "__len__"):
+                self.assertEqual([type(part) for part in node.body], [ast.Return], where)
+
+    def test_lists_and_dicts_of_a_file_are_only_read(self):
+        for path, text, tree in self.each_file():
+            kept = {target.id for part in tree.body if isinstance(part, ast.Assign) for target in part.targets
+                    if isinstance(part.value, (ast.List, ast.Dict))}
+            for node in ast.walk(tree):
+                if isinstance(node, ast.Subscript) and isinstance(node.ctx, ast.Store):
+                    self.assertNotIn(getattr(node.value, "id", None), kept, path.name)
+                if isinstance(node, ast.Call):
+                    self.assertFalse({getattr(part, "id", None) for part in node.args} & kept, path.name)
+                    if isinstance(node.func, ast.Attribute) and node.func.attr in CHANGING_METHODS:
+                        self.assertNotIn(getattr(node.func.value, "id", None), kept, path.name)
+
     def test_builtins_and_methods(self):
+        methods = self.own_methods() | set(METHODS)
         for path, text, tree in self.each_file():
             own = {node.name for node in ast.walk(tree) if isinstance(node, (ast.FunctionDef, ast.ClassDef))}
             own |= {alias.name for node in ast.walk(tree) if isinstance(node, ast.ImportFrom) for alias in node.names}
@@ -90,12 +138,12 @@ class Language(unittest.TestCase):
                 if isinstance(node, ast.Name):
                     self.assertIn(node.id, own | set(BUILTINS), path.name)
                 if isinstance(node, ast.Call) and isinstance(node.func, ast.Attribute):
-                    self.assertIn(node.func.attr, METHODS, path.name)
+                    self.assertIn(node.func.attr, methods, path.name)
 
     def test_expressions_and_statements(self):
         for node, where in self.each_node():
             self.assertNotIsInstance(node, BARRED_NODES, where)
-            # A class with an __eq__ will come: then any, all, sum, sorted take lists alone.
+            # Beside a class with an __eq__ any, all, sum, sorted take lists alone.
             self.assertNotIsInstance(node, ast.GeneratorExp, where)
             if isinstance(node, ast.Constant):
                 self.assertNotIsInstance(node.value, (float, complex), where)
